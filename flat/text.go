@@ -5,6 +5,7 @@ import (
 	"strings"
 
 	"sheetmetal/api"
+	"sheetmetal/texts"
 )
 
 // FormatTable returns the text of a bend table.
@@ -13,9 +14,9 @@ func FormatTable(t api.BendTable) (string, api.Errno) {
 		return "", e
 	}
 	var b strings.Builder
-	writeLine(&b, "table", t.Material, strconv.Itoa(t.Gauge), strconv.Itoa(t.Die))
+	texts.WriteLine(&b, "table", t.Material, strconv.Itoa(t.Gauge), strconv.Itoa(t.Die))
 	for _, x := range t.Entries {
-		writeLine(&b, "angle", strconv.Itoa(x.Angle), strconv.Itoa(x.Num)+"/"+strconv.Itoa(x.Den))
+		texts.WriteLine(&b, "angle", strconv.Itoa(x.Angle), strconv.Itoa(x.Num)+"/"+strconv.Itoa(x.Den))
 	}
 	return b.String(), api.OK
 }
@@ -36,8 +37,8 @@ func ParseTable(text string) (api.BendTable, api.Errno) {
 // readTable returns a table, valid or not: if text is the text of a valid one, it is this one.
 func readTable(text string) api.BendTable {
 	first, rest, _ := strings.Cut(text, "\n")
-	words := wordsOf(first, 4)
-	t := api.BendTable{Material: words[1], Gauge: number(words[2]), Die: number(words[3])}
+	words := texts.Words(first, 4)
+	t := api.BendTable{Material: words[1], Gauge: texts.Number(words[2]), Die: texts.Number(words[3])}
 	for rest != "" {
 		first, rest, _ = strings.Cut(rest, "\n")
 		t.Entries = append(t.Entries, readEntry(first))
@@ -46,26 +47,7 @@ func readTable(text string) api.BendTable {
 }
 
 func readEntry(line string) api.Entry {
-	words := wordsOf(line, 3)
+	words := texts.Words(line, 3)
 	num, den, _ := strings.Cut(words[2], "/")
-	return api.Entry{Angle: number(words[1]), Num: number(num), Den: number(den)}
-}
-
-// wordsOf returns the first count words of a line, and empty ones for those that it does not have.
-func wordsOf(line string, count int) []string {
-	return append(strings.SplitN(line, " ", count), make([]string, count)...)[:count]
-}
-
-// number returns the number that a word writes; 0 if it writes none.
-func number(word string) int {
-	n, err := strconv.Atoi(word)
-	if err != nil {
-		return 0
-	}
-	return n
-}
-
-func writeLine(b *strings.Builder, words ...string) {
-	b.WriteString(strings.Join(words, " "))
-	b.WriteByte('\n')
+	return api.Entry{Angle: texts.Number(words[1]), Num: texts.Number(num), Den: texts.Number(den)}
 }

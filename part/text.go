@@ -5,6 +5,7 @@ import (
 	"strings"
 
 	"sheetmetal/api"
+	"sheetmetal/texts"
 )
 
 // Format returns the text of p.
@@ -77,25 +78,20 @@ func wordFor(n int, l []meaning) string {
 // write returns the text of a valid part.
 func write(p api.Part) string {
 	var b strings.Builder
-	writeLine(&b, "part", p.Name)
-	writeLine(&b, "material", p.Material, strconv.Itoa(p.Gauge))
+	texts.WriteLine(&b, "part", p.Name)
+	texts.WriteLine(&b, "material", p.Material, strconv.Itoa(p.Gauge))
 	if p.Grain != api.AnyGrain {
-		writeLine(&b, "grain", wordFor(p.Grain, grains()))
+		texts.WriteLine(&b, "grain", wordFor(p.Grain, grains()))
 	}
-	writeLine(&b, "base", strconv.Itoa(p.Width), strconv.Itoa(p.Height))
+	texts.WriteLine(&b, "base", strconv.Itoa(p.Width), strconv.Itoa(p.Height))
 	names := faceNames(p)
 	for _, f := range p.Flanges {
-		writeLine(&b, "flange", f.Name, wordFor(f.Parent, names), wordFor(f.Side, sides()),
+		texts.WriteLine(&b, "flange", f.Name, wordFor(f.Parent, names), wordFor(f.Side, sides()),
 			strconv.Itoa(f.Offset), strconv.Itoa(f.Width), strconv.Itoa(f.Length), wordFor(f.Angle, angles()))
 	}
 	for _, x := range p.Holes {
-		writeLine(&b, "hole", wordFor(x.Face, names), wordFor(x.Kind, kinds()),
+		texts.WriteLine(&b, "hole", wordFor(x.Face, names), wordFor(x.Kind, kinds()),
 			strconv.Itoa(x.X), strconv.Itoa(x.Y), strconv.Itoa(x.W), strconv.Itoa(x.H))
 	}
 	return b.String()
-}
-
-func writeLine(b *strings.Builder, words ...string) {
-	b.WriteString(strings.Join(words, " "))
-	b.WriteByte('\n')
 }
