@@ -4,6 +4,7 @@ import (
 	"slices"
 
 	"sheetmetal/api"
+	"sheetmetal/copies"
 	"sheetmetal/geom"
 	"sheetmetal/part"
 )
@@ -34,30 +35,9 @@ func WithoutPunch(m api.Machine, name string) (api.Machine, api.Errno) {
 	case len(m.Punches) == 1:
 		return api.Machine{}, api.ErrTool
 	}
-	m = cloneMachine(m)
+	m = copies.Machine(m)
 	m.Punches = slices.Delete(m.Punches, i, i+1)
 	return m, api.OK
-}
-
-// cloneMachine returns a copy of m that shares no memory with it.
-func cloneMachine(m api.Machine) api.Machine {
-	m.Punches, m.Dies = slices.Clone(m.Punches), slices.Clone(m.Dies)
-	for i := range m.Punches {
-		m.Punches[i].Polygons = clonePolygons(m.Punches[i].Polygons)
-	}
-	for i := range m.Dies {
-		m.Dies[i].Polygons = clonePolygons(m.Dies[i].Polygons)
-	}
-	m.Frame, m.Gauge = clonePolygons(m.Frame), slices.Clone(m.Gauge)
-	return m
-}
-
-func clonePolygons(l [][]api.Spot) [][]api.Spot {
-	l = slices.Clone(l)
-	for i := range l {
-		l[i] = slices.Clone(l[i])
-	}
-	return l
 }
 
 func validTools(m api.Machine) bool {

@@ -1,9 +1,8 @@
 package cut
 
 import (
-	"slices"
-
 	"sheetmetal/api"
+	"sheetmetal/copies"
 	"sheetmetal/geom"
 	"sheetmetal/nest"
 )
@@ -16,8 +15,7 @@ func LayoutOf(sheets []api.Sheet, pieces []api.Piece, set api.Settings, l []api.
 	if !within(sheet, 0, len(sheets)-1) {
 		return api.Layout{}, api.ErrNone
 	}
-	result := api.Layout{Sheet: sheets[sheet]}
-	result.Sheet.Clamps, result.Sheet.Used = slices.Clone(result.Sheet.Clamps), slices.Clone(result.Sheet.Used)
+	result := api.Layout{Sheet: copies.Sheet(sheets[sheet])}
 	for _, at := range l {
 		if at.Sheet != sheet {
 			continue

@@ -4,6 +4,7 @@ import (
 	"slices"
 
 	"sheetmetal/api"
+	"sheetmetal/copies"
 )
 
 // Apply returns the part after an edit.
@@ -50,7 +51,7 @@ func carries(p api.Part, face int) bool {
 
 // edited returns the part, valid or not, after an edit that can be made.
 func edited(p api.Part, e api.Edit) api.Part {
-	p.Flanges, p.Holes = slices.Clone(p.Flanges), slices.Clone(p.Holes)
+	p = copies.Part(p)
 	switch e.Kind {
 	case api.SetBase:
 		p.Width, p.Height = e.Width, e.Height
